@@ -1,0 +1,1 @@
+"""Meanloom: means of products and the sums that add for things apart."""

@@ -1,0 +1,77 @@
+"""What is a number, a share, a kind and a grouping; refusals of what is none.
+
+The messages never show what was handed in: Python refuses to write out very
+long numbers, and that would hide the refusal that is told.
+"""
+
+from meanloom.errors import BadCount, BadGrouping, BadKind, BadShare
+
+KINDS = ("all", "nested", "rows")
+MOST_THINGS = 6
+
+
+def is_number(value):
+    """Whether it is a whole number; True and False are none."""
+    return isinstance(value, int) and not isinstance(value, bool)
+
+
+def common_measure(one, other):
+    """The greatest number that goes into both."""
+    one, other = abs(one), abs(other)
+    while other > 0:
+        one, other = other, one % other
+    return one
+
+
+def is_share(value):
+    """Whether it is a pair of numbers in lowest terms, the bottom above 0."""
+    if not isinstance(value, tuple) or len(value) != 2:
+        return False
+    top, bottom = value
+    if not is_number(top) or not is_number(bottom):
+        return False
+    return bottom > 0 and common_measure(top, bottom) == 1
+
+
+def is_group(value):
+    """Whether it is a list of rising numbers, one at least."""
+    if not isinstance(value, list) or len(value) == 0:
+        return False
+    if not all([is_number(thing) for thing in value]):
+        return False
+    return all([early < late for early, late in zip(value, value[1:])])
+
+
+def is_grouping(value):
+    """Whether it is a grouping of 0 to 6 things."""
+    if not isinstance(value, list) or not all([is_group(group) for group in value]):
+        return False
+    firsts = [group[0] for group in value]
+    things = sorted([thing for group in value for thing in group])
+    if len(things) > MOST_THINGS or things != list(range(len(things))):
+        return False
+    return firsts == sorted(firsts)
+
+
+def check_share(value):
+    """Refuse what is no share."""
+    if not is_share(value):
+        raise BadShare("no pair in lowest terms with a bottom above 0")
+
+
+def check_count(value, most):
+    """Refuse what is no number from 0 to the most."""
+    if not is_number(value) or not 0 <= value <= most:
+        raise BadCount("no number within the told limits")
+
+
+def check_kind(value):
+    """Refuse what is none of the three kinds."""
+    if not isinstance(value, str) or value not in KINDS:
+        raise BadKind("none of the kinds all, nested and rows")
+
+
+def check_grouping(value):
+    """Refuse what is no grouping."""
+    if not is_grouping(value):
+        raise BadGrouping("no grouping of 0 to 6 things")
