@@ -1,13 +1,16 @@
-"""What is a number, a share, a kind and a grouping; refusals of what is none.
+"""What is a number, a share, a kind, a grouping, a table, a word; refusals of what is none.
 
 The messages never show what was handed in: Python refuses to write out very
 long numbers, and that would hide the refusal that is told.
 """
 
-from meanloom.errors import BadCount, BadGrouping, BadKind, BadShare
+from meanloom.errors import BadCount, BadGrouping, BadKind, BadMeans, BadShare, BadTable, BadWord
 
 KINDS = ("all", "nested", "rows")
 MOST_THINGS = 6
+MOST_ROWS = 40
+MOST_LETTERS = 4
+MOST_MEANS = 10
 
 
 def is_number(value):
@@ -53,6 +56,44 @@ def is_grouping(value):
     return firsts == sorted(firsts)
 
 
+def is_numbers(value, least, most):
+    """Whether it is a list of numbers, not fewer and not more than told."""
+    if not isinstance(value, list) or not least <= len(value) <= most:
+        return False
+    return all([is_number(number) for number in value])
+
+
+def is_row(value):
+    """Whether it is a pair of a weight from 1 on and a list of 1 to 4 numbers."""
+    if not isinstance(value, tuple) or len(value) != 2:
+        return False
+    weight, numbers = value
+    return is_number(weight) and weight >= 1 and is_numbers(numbers, 1, MOST_LETTERS)
+
+
+def is_table(value):
+    """Whether it is a list of 1 to 40 rows, in each as many numbers."""
+    if not isinstance(value, list) or not 1 <= len(value) <= MOST_ROWS:
+        return False
+    if not all([is_row(row) for row in value]):
+        return False
+    return all([len(numbers) == len(value[0][1]) for weight, numbers in value])
+
+
+def is_word(value, letters):
+    """Whether it is a list of 0 to 6 of so many letters."""
+    if not is_numbers(value, 0, MOST_THINGS):
+        return False
+    return all([0 <= letter < letters for letter in value])
+
+
+def is_means(value, most):
+    """Whether it is a list of shares, so many at most."""
+    if not isinstance(value, list) or len(value) > most:
+        return False
+    return all([is_share(mean) for mean in value])
+
+
 def check_share(value):
     """Refuse what is no share."""
     if not is_share(value):
@@ -75,3 +116,21 @@ def check_grouping(value):
     """Refuse what is no grouping."""
     if not is_grouping(value):
         raise BadGrouping("no grouping of 0 to 6 things")
+
+
+def check_table(value):
+    """Refuse what is no table."""
+    if not is_table(value):
+        raise BadTable("no list of 1 to 40 rows, pairs of a weight and 1 to 4 numbers, as many in each")
+
+
+def check_word(value, letters):
+    """Refuse what is no word of so many letters."""
+    if not is_word(value, letters):
+        raise BadWord("no list of 0 to 6 letters")
+
+
+def check_means(value):
+    """Refuse what is no list of 0 to 10 shares."""
+    if not is_means(value, MOST_MEANS):
+        raise BadMeans("no list of 0 to 10 shares")

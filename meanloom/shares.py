@@ -12,6 +12,16 @@ def lowest(top, bottom):
     return top // measure, bottom // measure
 
 
+def lowest_by_power(top, base, power):
+    """The share worth the top by so many bases, above 0, multiplied."""
+    bottom = 1
+    # Base by base the numbers to measure stay small, and what is left has no common measure.
+    for step in range(power):
+        measure = common_measure(top, base)
+        top, bottom = top // measure, bottom * (base // measure)
+    return top, bottom
+
+
 def check_shares(one, other):
     """Refuse if either is no share."""
     check_share(one)

@@ -2,6 +2,23 @@
 
 import copy
 
+GREAT = 10 ** 60 + 7
+HUGE = 3 ** 9000
+
+NOT_SHARES = [
+    # no tuple
+    [1, 2], [0, 1], {0: 1, 1: 2}, "12", b"12", range(1, 3),
+    # one or three numbers
+    (1,), (0,), (1, 2, 3), (1, 1, 1), (0, 1, 0),
+    # not in lowest terms
+    (2, 2), (2, 4), (-2, 4), (0, 2), (0, 7), (6, 3), (GREAT, GREAT), (GREAT * 3, 3), (HUGE, 9), (9, HUGE),
+    # a bottom of 0 or below
+    (1, 0), (0, 0), (-1, 0), (HUGE, 0), (1, -1), (1, -2), (-1, -2), (0, -1), (2, -4), (-HUGE, -2),
+    # parts that are no numbers
+    (True, 1), (False, 1), (1, True), (True, True), ("1", 2), (1, "2"), (None, 1), (1, None), ((1,), 2), ([1], 2),
+    (1, [2]), ((1, 2), (1, 2)), (1, object()), (object(), 1), (b"1", 1), ({}, 1), (1, {1}), (1j, 1),
+]
+
 
 class Agreeable:
     """Says that it is equal to anything."""
@@ -73,6 +90,77 @@ def not_groupings():
         [[0, 1, 2, 3, 4, 5, 6]], [[0], [1], [2], [3], [4], [5], [6]], [[0, 1, 2, 3, 4, 5], [6]],
         [list(range(7))], [list(range(1000))], [[thing] for thing in range(1000)],
     ]
+
+
+def not_shares():
+    """What is no share."""
+    return NOT_SHARES + not_numbers() + [0, 1, -1, HUGE]
+
+
+def not_lists():
+    """What is no list."""
+    return [
+        None, True, False, 0, 1, HUGE, "", "0", "all", b"", b"0", (), (0,), (0, 1), ((1, [0]),), {}, {0: 0}, set(), {0},
+        frozenset(), range(1), iter([]), object(), Agreeable(), Unreadable(), list, len, lambda: [], ..., NotImplemented,
+        1j, bytearray(b"0"), memoryview(b"0"), ValueError("x"),
+    ]
+
+
+def not_rows():
+    """What is no row of any table."""
+    bad = not_lists() + [
+        # no pair
+        [1, [0, 0]], (1,), ([0, 0],), (1, [0, 0], 1), (1, 0, 0), ([0, 0], 1), [[1, [0, 0]]], [(1, [0, 0])], [], [0, 0],
+        looped(),
+        # a weight of 0 or below
+        (0, [0, 0]), (-1, [0, 0]), (-HUGE, [0, 0]),
+        # no numbers, five and more
+        (1, []), (1, [0, 0, 0, 0, 0]), (1, [0] * 6), (1, [0] * 1000), (1, [[0, 0]]), (1, looped()),
+    ]
+    bad += [(1, value) for value in not_lists()] + [(value, [0, 0]) for value in not_numbers()]
+    bad += [(1, [value, 0]) for value in not_numbers()] + [(1, [0, value]) for value in not_numbers()]
+    return bad
+
+
+def not_tables():
+    """What is no table."""
+    good = (1, [0, 0])
+    bad = not_lists() + [[], looped(), good, list(good), (good,), (good, good), [[good]]]
+    bad += [[row] for row in not_rows()]
+    for row in not_rows() + [(1, [0]), (1, [0, 0, 0]), (1, [0, 0, 0, 0])]:
+        bad += [[row, good], [good, row], [good] * 20 + [row] + [good] * 19]
+    bad += [[good] * many for many in [41, 42, 80, 1000]]
+    return bad
+
+
+def not_words(letters):
+    """What is no word of so many letters."""
+    bad = not_lists() + [looped(), [[0]], [[]], [(0,)], ["0"], [None]]
+    bad += [[value] for value in not_numbers()] + [[0, value] for value in not_numbers()]
+    bad += [[letters], [-1], [letters + 1], [HUGE], [-HUGE], [0, letters], [letters, 0], [0, -1], [0, 0, 0, 0, 0, -letters]]
+    bad += [[0] * 7, [0] * 8, [0] * 1000, [letters - 1] * 7, [letters] * 7, [0] * 5 + [letters], [True] * 7]
+    return bad
+
+
+def not_ways(letters):
+    """What are no ways to make letters of so many."""
+    good = [1] * letters + [0]
+    bad = not_lists() + [[], looped(), good, [0], [[good]], [tuple(good)], tuple([good]), [good, tuple(good)]]
+    for way in not_lists() + [[], good[1:], good + [0], good * 2, good * 1000, [good], looped()]:
+        bad += [[way], [way, good], [good, way], [good, good, good, way]]
+    for value in not_numbers():
+        bad += [[[value] + good[1:]], [good[:-1] + [value]], [good, good[:-1] + [value]]]
+    bad += [[good] * 5, [good] * 6, [good] * 1000]
+    return bad
+
+
+def not_means():
+    """What is no list of 0 to 10 shares."""
+    bad = not_lists() + [looped(), [[]], [[(1, 1)]], (1, 1), ((1, 1),), ((1, 1), (1, 1)), {(1, 1): (1, 1)}, {(1, 1)}]
+    for value in not_shares():
+        bad += [[value], [(1, 1), value], [value, (1, 1)], [(1, 2)] * 9 + [value]]
+    bad += [[(1, 1)] * 11, [(0, 1)] * 12, [(1, 2)] * 1000, [(2, 2)] * 11]
+    return bad
 
 
 def stays(test, asked, *handed):

@@ -3,7 +3,7 @@
 import inspect
 import unittest
 
-from meanloom import errors, groupings, shares
+from meanloom import errors, groupings, series, shares, sums, tables
 
 NAMES = [
     "BadShare", "BadCount", "BadKind", "BadGrouping", "BadTable", "BadWord", "BadWays", "BadMeans", "BadLetters",
@@ -24,6 +24,14 @@ SIGNATURES = [
     (groupings, "within", ["one", "other"]),
     (groupings, "joined", ["one", "other"]),
     (groupings, "turned_in", ["grouping"]),
+    (tables, "mean", ["table", "word"]),
+    (tables, "beside", ["one", "other"]),
+    (tables, "made", ["table", "ways"]),
+    (sums, "sum_of", ["table", "word", "kind"]),
+    (sums, "product_sum", ["table", "words"]),
+    (series, "sums_from", ["means", "kind"]),
+    (series, "means_from", ["sums", "kind"]),
+    (series, "between", ["sums", "kind", "other"]),
 ]
 
 

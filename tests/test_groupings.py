@@ -5,55 +5,8 @@ import unittest
 
 from meanloom.errors import BadCount, BadGrouping, BadKind
 from meanloom.groupings import groupings, how_many, is_kind, joined, mark, turned_in, within
+from tests.brute import KINDS, every_grouping, every_of_kind, groups_cross, homes, inside, of_kind
 from tests.strange import not_groupings, not_kinds, not_numbers, stays, told_new
-
-KINDS = ["all", "nested", "rows"]
-
-
-def every_grouping(many):
-    """All groupings, made by putting the last thing into each group or alone."""
-    if many == 0:
-        return [[]]
-    told = []
-    for less in every_grouping(many - 1):
-        for at in range(len(less)):
-            told.append([group + [many - 1] if place == at else list(group) for place, group in enumerate(less)])
-        told.append([list(group) for group in less] + [[many - 1]])
-    return told
-
-
-def homes(grouping):
-    """For each thing the count of its group."""
-    many = sum(len(group) for group in grouping)
-    return [[at for at, group in enumerate(grouping) if thing in group][0] for thing in range(many)]
-
-
-def groups_cross(one, other):
-    """As the document says it, with a in either group."""
-    for first, second in [(one, other), (other, one)]:
-        for a, c in itertools.combinations(first, 2):
-            for b, d in itertools.combinations(second, 2):
-                if a < b < c < d:
-                    return True
-    return False
-
-
-def of_kind(grouping, kind):
-    """As the document says it."""
-    if kind == "nested":
-        return not any(groups_cross(one, other) for one, other in itertools.combinations(grouping, 2))
-    if kind == "rows":
-        return all(group == list(range(group[0], group[0] + len(group))) for group in grouping)
-    return True
-
-
-def every_of_kind(many, kind):
-    return sorted([grouping for grouping in every_grouping(many) if of_kind(grouping, kind)], key=homes)
-
-
-def inside(one, other):
-    """As the document says it."""
-    return all(any(set(group) <= set(larger) for larger in other) for group in one)
 
 
 def bell(most):

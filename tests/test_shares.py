@@ -7,10 +7,8 @@ from fractions import Fraction
 
 from meanloom.errors import BadShare
 from meanloom.shares import minus, order, over, plus, share, times
-from tests.strange import not_numbers
-
-GREAT = 10 ** 60 + 7
-HUGE = 3 ** 9000
+from tests.brute import pair
+from tests.strange import GREAT, HUGE, not_numbers, not_shares
 
 NUMBERS = [0, 1, -1, 2, -2, 3, 4, -6, 9, 12, 35, -36, GREAT, -GREAT, 6 * GREAT, 2 ** 200, -(2 ** 199) * 3, 10 ** 61]
 
@@ -19,30 +17,7 @@ SHARES = [
     (-GREAT, 10 ** 40 + 1), (1, GREAT), (GREAT + 1, GREAT), (GREAT, GREAT + 1), (2 ** 200, 3 ** 100), (-(3 ** 100), 2 ** 99),
 ]
 
-NOT_SHARES = [
-    # no tuple
-    [1, 2], [0, 1], {0: 1, 1: 2}, "12", b"12", range(1, 3),
-    # one or three numbers
-    (1,), (0,), (1, 2, 3), (1, 1, 1), (0, 1, 0),
-    # not in lowest terms
-    (2, 2), (2, 4), (-2, 4), (0, 2), (0, 7), (6, 3), (GREAT, GREAT), (GREAT * 3, 3), (HUGE, 9), (9, HUGE),
-    # a bottom of 0 or below
-    (1, 0), (0, 0), (-1, 0), (HUGE, 0), (1, -1), (1, -2), (-1, -2), (0, -1), (2, -4), (-HUGE, -2),
-    # parts that are no numbers
-    (True, 1), (False, 1), (1, True), (True, True), ("1", 2), (1, "2"), (None, 1), (1, None), ((1,), 2), ([1], 2),
-    (1, [2]), ((1, 2), (1, 2)), (1, object()), (object(), 1), (b"1", 1), ({}, 1), (1, {1}), (1j, 1),
-]
-
 PAIRS_ASKED = [plus, minus, times, over, order]
-
-
-def pair(worth):
-    """A share of what Python's own fractions say."""
-    return worth.numerator, worth.denominator
-
-
-def not_shares():
-    return NOT_SHARES + not_numbers() + [0, 1, -1, HUGE]
 
 
 class ShareTest(unittest.TestCase):
