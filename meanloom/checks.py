@@ -1,16 +1,17 @@
-"""What is a number, a share, a kind, a grouping, a table, a word; refusals of what is none.
+"""What is a number, a share, a kind, a grouping, a table, a word, a letter; refusals of what is none.
 
 The messages never show what was handed in: Python refuses to write out very
 long numbers, and that would hide the refusal that is told.
 """
 
-from meanloom.errors import BadCount, BadGrouping, BadKind, BadMeans, BadShare, BadTable, BadWord
+from meanloom.errors import BadCount, BadGrouping, BadKind, BadLetters, BadMeans, BadShare, BadTable, BadWord
 
 KINDS = ("all", "nested", "rows")
 MOST_THINGS = 6
 MOST_ROWS = 40
 MOST_LETTERS = 4
 MOST_MEANS = 10
+MOST_SQUARED = 13
 
 
 def is_number(value):
@@ -94,6 +95,11 @@ def is_means(value, most):
     return all([is_share(mean) for mean in value])
 
 
+def is_letter(value, letters):
+    """Whether it is one of so many letters."""
+    return is_number(value) and 0 <= value < letters
+
+
 def check_share(value):
     """Refuse what is no share."""
     if not is_share(value):
@@ -134,3 +140,15 @@ def check_means(value):
     """Refuse what is no list of 0 to 10 shares."""
     if not is_means(value, MOST_MEANS):
         raise BadMeans("no list of 0 to 10 shares")
+
+
+def check_odd_means(value):
+    """Refuse what is no odd count of 1 to 13 shares."""
+    if not is_means(value, MOST_SQUARED) or len(value) % 2 == 0:
+        raise BadMeans("no list of an odd count of 1 to 13 shares")
+
+
+def check_letters(one, other, letters):
+    """Refuse what are no two unlike ones of so many letters."""
+    if not is_letter(one, letters) or not is_letter(other, letters) or one == other:
+        raise BadLetters("no two unlike letters of the table")

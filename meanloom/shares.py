@@ -22,6 +22,24 @@ def lowest_by_power(top, base, power):
     return top, bottom
 
 
+def common_multiple(one, other):
+    """The least number into which both, above 0, go."""
+    return one * (other // common_measure(one, other))
+
+
+def common_bottom(pairs):
+    """The least number into which all bottoms go, 1 of none."""
+    told = 1
+    for top, bottom in pairs:
+        told = common_multiple(told, bottom)
+    return told
+
+
+def tops_over(pairs, bottom):
+    """The tops that the pairs have over a common bottom."""
+    return [top * (bottom // under) for top, under in pairs]
+
+
 def check_shares(one, other):
     """Refuse if either is no share."""
     check_share(one)

@@ -163,6 +163,32 @@ def not_means():
     return bad
 
 
+def not_odd_means():
+    """What is no odd count of 1 to 13 shares."""
+    bad = not_lists() + [looped(), [[]], [[(1, 1)]], (1, 1), ((1, 1),), ((1, 1), (1, 1), (1, 1)), {(1, 1)}, [1], [1, 0, 1]]
+    bad += [[(1, 1)] * many for many in [0, 2, 4, 6, 8, 10, 12, 14, 15, 16, 17, 1001]]
+    for value in not_shares():
+        bad += [[value], [(1, 1), value, (1, 1)], [(1, 2)] * 12 + [value], [value] + [(1, 2)] * 6]
+    return bad
+
+
+def not_two_letters(letters):
+    """Pairs of what are no two unlike ones of so many letters."""
+    bad = not_numbers() + [letters, letters + 1, -1, -letters, HUGE, -HUGE, (0, 1), [0, 1]]
+    told = [(letter, letter) for letter in range(letters)]
+    for value in bad:
+        told += [(value, value), (value, 0), (0, value), (value, letters - 1), (letters - 1, value)]
+    return told
+
+
+def not_two_counts():
+    """Pairs of what are no numbers from 0 to 40, one above 0."""
+    told = [(0, 0)]
+    for value in not_numbers() + [41, 42, -1, -40, HUGE, -HUGE, (1, 1), (2, 1)]:
+        told += [(value, value), (value, 0), (0, value), (value, 1), (1, value), (value, 40), (40, value)]
+    return told
+
+
 def stays(test, asked, *handed):
     """Ask, see that what was handed in stayed as it was, and tell the answer."""
     before = copy.deepcopy(handed)

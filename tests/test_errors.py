@@ -3,7 +3,7 @@
 import inspect
 import unittest
 
-from meanloom import errors, groupings, series, shares, sums, tables
+from meanloom import adding, answers, binding, errors, groupings, series, shares, squares, sums, tables
 
 NAMES = [
     "BadShare", "BadCount", "BadKind", "BadGrouping", "BadTable", "BadWord", "BadWays", "BadMeans", "BadLetters",
@@ -32,6 +32,19 @@ SIGNATURES = [
     (series, "sums_from", ["means", "kind"]),
     (series, "means_from", ["sums", "kind"]),
     (series, "between", ["sums", "kind", "other"]),
+    (adding, "word_mean", ["one", "other", "word", "kind"]),
+    (adding, "added", ["one", "other", "kind"]),
+    (answers, "Apart", []),
+    (answers, "Mixed", ["many", "more"]),
+    (answers, "Squares", ["parts"]),
+    (answers, "Below", ["row"]),
+    (answers.Apart, "shows", ["self", "table", "one", "other"]),
+    (answers.Mixed, "shows", ["self", "table", "one", "other"]),
+    (answers.Squares, "shows", ["self", "means"]),
+    (answers.Below, "shows", ["self", "means"]),
+    (binding, "both_sum", ["table", "one", "other", "many", "more"]),
+    (binding, "apart", ["table", "one", "other"]),
+    (squares, "steady", ["means"]),
 ]
 
 

@@ -117,7 +117,8 @@ class LanguageTest(unittest.TestCase):
             with self.subTest(file=file):
                 imports = [name for module, name in imported(tree)]
                 classes = [node.name for node in ast.walk(tree) if isinstance(node, ast.ClassDef)]
-                for name in bound_names(tree) + defined_names(tree):
+                defined = [name for name in defined_names(tree) if name != "__init__"]
+                for name in bound_names(tree) + defined:
                     self.assertRegex(name, r"\A[A-Za-z][A-Za-z0-9_]*\Z")
                     self.assertNotIn(name, BARRED_NAMES)
                     self.assertNotIn(name, dir(builtins))
@@ -134,6 +135,43 @@ class LanguageTest(unittest.TestCase):
                 called = [node.func.attr for node in ast.walk(tree)
                           if isinstance(node, ast.Call) and isinstance(node.func, ast.Attribute)]
                 self.assertEqual(sorted(set(called) - METHODS), [])
+
+    def test_a_double_underscore_stands_in_classes_only(self):
+        for file, text, tree in files():
+            with self.subTest(file=file):
+                methods = [row for node in tree.body if isinstance(node, ast.ClassDef) for row in node.body]
+                inner = [row.name for row in methods if isinstance(row, ast.FunctionDef)]
+                self.assertEqual(defined_names(tree).count("__init__"), inner.count("__init__"))
+
+    def test_no_name_is_both_a_method_and_an_attribute(self):
+        methods, attributes = [], []
+        for file, text, tree in files():
+            for node in ast.walk(tree):
+                if isinstance(node, ast.ClassDef):
+                    methods += [row.name for row in node.body if isinstance(row, ast.FunctionDef)]
+                if isinstance(node, ast.Attribute) and isinstance(node.ctx, ast.Store):
+                    attributes.append(node.attr)
+        self.assertEqual(set(methods) & set(attributes), set())
+        self.assertEqual(set(attributes) & (METHODS | BARRED_NAMES), set())
+
+    def test_no_two_files_import_each_other(self):
+        reached = {"meanloom." + file[:-3]: {module for module, name in imported(tree)} for file, text, tree in files()}
+        for step in range(len(reached)):
+            reached = {file: told.union(*[reached[other] for other in told]) for file, told in reached.items()}
+        for file, told in reached.items():
+            self.assertNotIn(file, told)
+
+    def test_views_are_iterated_on_the_spot(self):
+        # So no function of the package's own is handed one.
+        for file, text, tree in files():
+            own = set(defined_names(tree) + [name for module, name in imported(tree)])
+            for node in ast.walk(tree):
+                if isinstance(node, ast.Call) and isinstance(node.func, ast.Name) and node.func.id in own:
+                    for part in node.args:
+                        view = isinstance(part, ast.Call) and isinstance(part.func, ast.Attribute)
+                        self.assertFalse(view and part.func.attr in ["items", "keys", "values"], file)
+                        built = isinstance(part, ast.Call) and isinstance(part.func, ast.Name)
+                        self.assertFalse(built and part.func.id in ["zip", "range", "enumerate", "reversed"], file)
 
     def test_a_name_is_bound_once_at_module_level(self):
         for file, text, tree in files():
